@@ -1,0 +1,1 @@
+"""Networks of comparers, and the rows that show what they do."""

@@ -1,0 +1,72 @@
+"""The names of the interface, where they are defined, and their arguments."""
+
+import importlib
+import inspect
+import unittest
+
+from neededrows.errors import InvalidNetwork, InvalidText, NetworkError
+from neededrows.network import Network, joined, layers, mirrored, renamed, widened
+from neededrows.rows import is_sorted
+from neededrows.tasks import asked, right
+
+FUNCTIONS = {
+    "network": {
+        "mirrored": ["network"],
+        "renamed": ["network", "names"],
+        "joined": ["first", "second"],
+        "widened": ["network", "wires", "shift"],
+        "layers": ["network"],
+        "depth": ["network"],
+    },
+    "rows": {"is_sorted": ["row"], "plain_rows": ["wires"], "noughts": ["row"]},
+    "tasks": {"asked": ["wires", "task", "row"], "right": ["task", "row", "result"]},
+}
+
+
+class Functions(unittest.TestCase):
+
+    def test_each_is_defined_in_its_file_with_its_arguments(self):
+        for module, functions in FUNCTIONS.items():
+            found = importlib.import_module("neededrows." + module)
+            for name, arguments in functions.items():
+                function = getattr(found, name)
+                self.assertTrue(inspect.isfunction(function), name)
+                self.assertEqual(function.__module__, "neededrows." + module)
+                self.assertEqual(list(inspect.signature(function).parameters), arguments)
+
+    def test_arguments_may_be_named(self):
+        network = Network(comparers=[(0, 1)], wires=2)
+        self.assertEqual(network.run(row=(2, 1)), (1, 2))
+        self.assertEqual(mirrored(network=network), network)
+        self.assertEqual(renamed(names=(1, 0), network=network), Network(2, [(1, 0)]))
+        self.assertEqual(joined(second=Network(2, []), first=network), network)
+        self.assertEqual(widened(shift=1, wires=3, network=network), Network(3, [(1, 2)]))
+        self.assertEqual(layers(network=network), [[(0, 1)]])
+        self.assertIs(is_sorted(row=(1, 2)), True)
+        self.assertIs(asked(row=(1, 0), task=("merge", 1), wires=2), True)
+        self.assertIs(right(result=(0, 1), row=(1, 0), task=("sort",)), True)
+
+
+class Classes(unittest.TestCase):
+
+    def test_each_is_defined_in_its_file(self):
+        for error in (NetworkError, InvalidNetwork, InvalidText):
+            self.assertEqual(error.__module__, "neededrows.errors")
+        self.assertEqual(Network.__module__, "neededrows.network")
+
+    def test_what_is_listed_for_a_class_stands_in_the_class_itself(self):
+        self.assertTrue(inspect.isfunction(vars(Network)["run"]))
+        self.assertTrue(inspect.isfunction(vars(Network)["__eq__"]))
+        self.assertIsInstance(vars(Network)["is_standard"], property)
+
+    def test_networks_that_are_made_are_networks(self):
+        network = Network(2, [(0, 1)])
+        made = (mirrored(network), renamed(network, (0, 1)), joined(network, network), widened(network, 2, 0))
+        for found in made:
+            self.assertIs(type(found), Network)
+            self.assertIs(type(found.wires), int)
+            self.assertIs(type(found.comparers), tuple)
+
+
+if __name__ == "__main__":
+    unittest.main()
