@@ -4,10 +4,14 @@ import importlib
 import inspect
 import unittest
 
+from neededrows.alike import parted, straight
 from neededrows.errors import InvalidNetwork, InvalidText, NetworkError
+from neededrows.forms import by_sets, idle, sets, trimmed
+from neededrows.needed import does, needed
 from neededrows.network import Network, joined, layers, mirrored, renamed, widened
 from neededrows.rows import is_sorted
 from neededrows.tasks import asked, right
+from neededrows.witness import exact, witness
 
 FUNCTIONS = {
     "network": {
@@ -20,6 +24,15 @@ FUNCTIONS = {
     },
     "rows": {"is_sorted": ["row"], "plain_rows": ["wires"], "noughts": ["row"]},
     "tasks": {"asked": ["wires", "task", "row"], "right": ["task", "row", "result"]},
+    "needed": {"needed": ["wires", "task"], "does": ["network", "task"]},
+    "witness": {"witness": ["row"], "exact": ["network", "row"]},
+    "alike": {"parted": ["network", "other"], "straight": ["network"]},
+    "forms": {
+        "sets": ["network", "wire"],
+        "by_sets": ["found", "row"],
+        "idle": ["network"],
+        "trimmed": ["network"],
+    },
 }
 
 
@@ -45,6 +58,16 @@ class Functions(unittest.TestCase):
         self.assertIs(is_sorted(row=(1, 2)), True)
         self.assertIs(asked(row=(1, 0), task=("merge", 1), wires=2), True)
         self.assertIs(right(result=(0, 1), row=(1, 0), task=("sort",)), True)
+        self.assertEqual(needed(task=("sort",), wires=2), [(1, 0)])
+        self.assertEqual(does(task=("sort",), network=network), (True, None))
+        self.assertEqual(witness(row=(1, 0)), Network(2, []))
+        self.assertIsNone(exact(row=(1, 0), network=network))
+        self.assertEqual(parted(other=network, network=Network(2, [])), (1, 0))
+        self.assertEqual(straight(network=network), (network, (0, 1)))
+        self.assertEqual(sets(wire=0, network=network), [(0, 1)])
+        self.assertEqual(by_sets(row=(4, 3), found=[(0, 1)]), 3)
+        self.assertEqual(idle(network=network), [])
+        self.assertEqual(trimmed(network=network), network)
 
 
 class Classes(unittest.TestCase):
@@ -62,7 +85,7 @@ class Classes(unittest.TestCase):
     def test_networks_that_are_made_are_networks(self):
         network = Network(2, [(0, 1)])
         made = (mirrored(network), renamed(network, (0, 1)), joined(network, network), widened(network, 2, 0))
-        for found in made:
+        for found in made + (witness((1, 0, 1)), straight(network)[0], trimmed(network)):
             self.assertIs(type(found), Network)
             self.assertIs(type(found.wires), int)
             self.assertIs(type(found.comparers), tuple)
