@@ -4,8 +4,12 @@ import importlib
 import inspect
 import unittest
 
+from neededrows.adjacent import missing, sorts_adjacent
 from neededrows.alike import parted, straight
+from neededrows.builders import batcher, bitonic_merging, bricks, bubbles, insertion, merging
+from neededrows.distance import early, late, pruned, shortest
 from neededrows.errors import InvalidNetwork, InvalidText, NetworkError
+from neededrows.fewest import all_layers, fewest, fewest_layers, led
 from neededrows.forms import by_sets, idle, sets, trimmed
 from neededrows.needed import does, needed
 from neededrows.network import Network, joined, layers, mirrored, renamed, widened
@@ -32,6 +36,27 @@ FUNCTIONS = {
         "by_sets": ["found", "row"],
         "idle": ["network"],
         "trimmed": ["network"],
+    },
+    "adjacent": {"sorts_adjacent": ["network"], "missing": ["wires", "a"]},
+    "builders": {
+        "insertion": ["wires"],
+        "bubbles": ["wires"],
+        "bricks": ["wires", "rounds"],
+        "merging": ["p", "q"],
+        "batcher": ["wires"],
+        "bitonic_merging": ["wires"],
+    },
+    "distance": {
+        "late": ["network"],
+        "early": ["network"],
+        "pruned": ["network", "wanted"],
+        "shortest": ["network"],
+    },
+    "fewest": {
+        "fewest": ["wires"],
+        "fewest_layers": ["wires"],
+        "all_layers": ["wires"],
+        "led": ["state", "comparers"],
     },
 }
 
@@ -68,6 +93,16 @@ class Functions(unittest.TestCase):
         self.assertEqual(by_sets(row=(4, 3), found=[(0, 1)]), 3)
         self.assertEqual(idle(network=network), [])
         self.assertEqual(trimmed(network=network), network)
+        self.assertIs(sorts_adjacent(network=network), True)
+        self.assertEqual(missing(a=1, wires=2), Network(2, []))
+        self.assertEqual([insertion(wires=2), bubbles(wires=2), batcher(wires=2)], [network] * 3)
+        self.assertEqual([bricks(rounds=1, wires=2), merging(q=1, p=1), bitonic_merging(wires=2)], [network] * 3)
+        self.assertEqual([late(network=network), early(network=network)], [0, 0])
+        self.assertEqual(pruned(wanted=(0,), network=network), network)
+        self.assertEqual(shortest(network=network), network)
+        self.assertEqual([fewest(wires=1)[0], fewest_layers(wires=1)[0]], [0, 0])
+        self.assertEqual(all_layers(wires=2), [((0, 1),)])
+        self.assertEqual(led(comparers=[(0, 1)], state=((1, 0),)), ((0, 1),))
 
 
 class Classes(unittest.TestCase):
@@ -85,7 +120,9 @@ class Classes(unittest.TestCase):
     def test_networks_that_are_made_are_networks(self):
         network = Network(2, [(0, 1)])
         made = (mirrored(network), renamed(network, (0, 1)), joined(network, network), widened(network, 2, 0))
-        for found in made + (witness((1, 0, 1)), straight(network)[0], trimmed(network)):
+        made += (witness((1, 0, 1)), straight(network)[0], trimmed(network), missing(3, 1))
+        made += (insertion(3), bubbles(3), bricks(3, 3), merging(2, 1), batcher(3), bitonic_merging(4))
+        for found in made + (pruned(network, (1,)), shortest(network)):
             self.assertIs(type(found), Network)
             self.assertIs(type(found.wires), int)
             self.assertIs(type(found.comparers), tuple)
