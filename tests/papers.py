@@ -1,6 +1,6 @@
 """Papers, looked through by the words of the document and by nothing of the program."""
 
-from itertools import combinations, product
+from itertools import combinations, permutations, product
 
 # The least numbers for 1 to 4 wires.
 LEAST = {"fewest": {1: 0, 2: 1, 3: 3, 4: 5}, "layers": {1: 0, 2: 1, 3: 3, 4: 3}}
@@ -82,35 +82,43 @@ def wrong_state(wires, state):
     return None
 
 
-def wrong_covers(state, covers, following, steps):
+def wrong_covers(wires, pair, following, steps):
     """What is wrong with the covers of a state, or None."""
+    state, covers = pair
     if len(covers) != len(steps):
         return "number of covers"
     for (index, names), step in zip(covers, steps):
         if index not in range(len(following)):
             return "index"
-        if sorted(names) != list(range(len(state[0]) if state else len(names))):
+        if sorted(names) != list(range(wires)):
             return "names"
         if not covers_by(following[index][0], led_by(state, step), names):
             return "not covered"
     return None
 
 
-def wrong_levels(wires, levels, steps):
-    """What is wrong with levels, or None."""
+def wrong_states(wires, levels):
+    """What is wrong with the states of the levels, or None."""
     if levels and (len(levels[0]) != 1 or levels[0][0][0] != plain(wires)):
         return "first level"
-    for at, level in enumerate(levels):
-        if not level:
-            return "no pairs"
-        for state, covers in level:
-            wrong = wrong_state(wires, state)
-            if wrong is None and at + 1 < len(levels):
-                wrong = wrong_covers(state, covers, levels[at + 1], steps)
-            if wrong is None and at + 1 == len(levels):
-                wrong = "last level" if covers != () or not has_twins(state) else None
+    if () in levels:
+        return "no pairs"
+    found = [wrong_state(wires, state) for level in levels for state, _ in level]
+    return next((wrong for wrong in found if wrong is not None), None)
+
+
+def wrong_levels(wires, levels, steps):
+    """What is wrong with levels, or None."""
+    wrong = wrong_states(wires, levels)
+    if wrong is not None:
+        return wrong
+    for level, following in zip(levels, levels[1:]):
+        for pair in level:
+            wrong = wrong_covers(wires, pair, following, steps)
             if wrong is not None:
                 return wrong
+    if any(covers != () or not has_twins(state) for level in levels[-1:] for state, covers in level):
+        return "last level"
     return None
 
 
@@ -128,3 +136,38 @@ def wrong_paper(word, wires, number, paper):
     if len(levels) != number:
         return "number of levels"
     return wrong_levels(wires, levels, steps_of(word, wires))
+
+
+def cover_for(states, covered, wires):
+    """The last one of the states that covers, with the last renaming by which it does, or None."""
+    for index in reversed(range(len(states))):
+        for names in reversed(list(permutations(range(wires)))):
+            if covers_by(states[index], covered, names):
+                return (index, names)
+    return None
+
+
+def paper_with(word, wires, comparers, all_states):
+    """A paper with these states in its levels, and covers where there are any."""
+    levels = []
+    for states, following in zip(all_states, all_states[1:] + [None]):
+        level = []
+        for state in states:
+            steps = [] if following is None else steps_of(word, wires)
+            level.append((state, tuple(cover_for(following, led_by(state, step), wires) for step in steps)))
+        levels.append(tuple(level))
+    return (word, tuple(comparers), tuple(levels))
+
+
+def states_of(paper):
+    """The states of each level of a paper."""
+    return [[state for state, _ in level] for level in paper[2]]
+
+
+def all_reached(word, wires, number):
+    """For each level all states that are reached, without any left out that others cover."""
+    found = [[plain(wires)]]
+    for _ in range(number - 1):
+        reached = [led_by(state, step) for state in found[-1] for step in steps_of(word, wires)]
+        found.append(sorted(set(reached)))
+    return found[:number]

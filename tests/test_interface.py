@@ -7,14 +7,18 @@ import unittest
 from neededrows.adjacent import missing, sorts_adjacent
 from neededrows.alike import parted, straight
 from neededrows.builders import batcher, bitonic_merging, bricks, bubbles, insertion, merging
+from neededrows.counting import counted, counting
 from neededrows.distance import early, late, pruned, shortest
 from neededrows.errors import InvalidNetwork, InvalidText, NetworkError
 from neededrows.fewest import all_layers, fewest, fewest_layers, led
 from neededrows.forms import by_sets, idle, sets, trimmed
+from neededrows.judge import takes_fewest, takes_layers
 from neededrows.needed import does, needed
 from neededrows.network import Network, joined, layers, mirrored, renamed, widened
 from neededrows.rows import is_sorted
+from neededrows.switches import settings, switched, switches
 from neededrows.tasks import asked, right
+from neededrows.texts import read, write
 from neededrows.witness import exact, witness
 
 FUNCTIONS = {
@@ -58,6 +62,17 @@ FUNCTIONS = {
         "all_layers": ["wires"],
         "led": ["state", "comparers"],
     },
+    "switches": {
+        "switched": ["row", "pairs", "settings"],
+        "switches": ["wires"],
+        "settings": ["order"],
+    },
+    "counting": {"counted": ["network", "tokens"], "counting": ["network"]},
+    "judge": {
+        "takes_fewest": ["wires", "number", "paper"],
+        "takes_layers": ["wires", "number", "paper"],
+    },
+    "texts": {"write": ["network"], "read": ["text"]},
 }
 
 
@@ -103,6 +118,13 @@ class Functions(unittest.TestCase):
         self.assertEqual([fewest(wires=1)[0], fewest_layers(wires=1)[0]], [0, 0])
         self.assertEqual(all_layers(wires=2), [((0, 1),)])
         self.assertEqual(led(comparers=[(0, 1)], state=((1, 0),)), ((0, 1),))
+        self.assertEqual(switched(settings=(True,), pairs=[(0, 1)], row=(1, 2)), (2, 1))
+        self.assertEqual((switches(wires=2), settings(order=(1, 0))), ([(0, 1)], (True,)))
+        self.assertEqual(counted(tokens=(3, 0), network=network), (2, 1))
+        self.assertEqual(counting(network=network), (True, None))
+        self.assertIs(takes_fewest(paper=("fewest", (), ()), number=0, wires=1), True)
+        self.assertIs(takes_layers(paper=("layers", (), ()), number=0, wires=1), True)
+        self.assertEqual((write(network=network), read(text="2: 0-1")), ("2: 0-1", network))
 
 
 class Classes(unittest.TestCase):
@@ -122,7 +144,7 @@ class Classes(unittest.TestCase):
         made = (mirrored(network), renamed(network, (0, 1)), joined(network, network), widened(network, 2, 0))
         made += (witness((1, 0, 1)), straight(network)[0], trimmed(network), missing(3, 1))
         made += (insertion(3), bubbles(3), bricks(3, 3), merging(2, 1), batcher(3), bitonic_merging(4))
-        for found in made + (pruned(network, (1,)), shortest(network)):
+        for found in made + (pruned(network, (1,)), shortest(network), read("2: 0-1")):
             self.assertIs(type(found), Network)
             self.assertIs(type(found.wires), int)
             self.assertIs(type(found.comparers), tuple)
